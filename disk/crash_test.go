@@ -15,29 +15,26 @@ func crash(t *testing.T, d api.Disk, kept uint64, torn int) api.Disk {
 	return must(t, d, e)
 }
 
-// crashed are a disk's sectors behind a crash, worked out byte by byte: of each the last write that reaches it.
+// crashed are a disk's sectors behind a crash, worked out as pieces, each of which lies over those ahead of it.
 func crashed(d api.Disk, kept uint64, torn int) []string {
+	pieces := map[int][]string{}
 	loses := -1
-	for i := range d.Writes {
+	for i, w := range d.Writes {
 		if kept&(1<<i) == 0 {
 			loses = i
+		} else {
+			pieces[w.At] = append(pieces[w.At], w.Data)
 		}
 	}
-	var l []string
-	for at, safe := range d.Sectors {
-		b := make([]byte, 64)
-		for k := range b {
-			b[k] = safe[k]
-			for i, w := range d.Writes {
-				if w.At == at && kept&(1<<i) != 0 {
-					b[k] = w.Data[k]
-				}
-			}
-			if torn >= 1 && torn <= 63 && loses >= 0 && d.Writes[loses].At == at && k < torn {
-				b[k] = d.Writes[loses].Data[k]
-			}
+	if loses >= 0 && torn >= 1 && torn <= 63 {
+		w := d.Writes[loses]
+		pieces[w.At] = append(pieces[w.At], w.Data[:torn])
+	}
+	l := slices.Clone(d.Sectors)
+	for at, over := range pieces {
+		for _, piece := range over {
+			l[at] = piece + l[at][len(piece):]
 		}
-		l = append(l, string(b))
 	}
 	return l
 }
