@@ -1,0 +1,101 @@
+package layers_test
+
+import (
+	"go/ast"
+	"go/importer"
+	"go/parser"
+	"go/token"
+	"go/types"
+	"path/filepath"
+	"strings"
+	"testing"
+)
+
+// program is a layer's own: the functions and methods that it declares, and what their words mean.
+type program struct {
+	functions []*ast.FuncDecl
+	info      *types.Info
+}
+
+// read reads a layer's program, without its tests.
+func read(t *testing.T, layer string) program {
+	t.Helper()
+	names, err := filepath.Glob(filepath.Join("..", layer, "*.go"))
+	if err != nil {
+		t.Fatal(err)
+	}
+	fset := token.NewFileSet()
+	var files []*ast.File
+	var p program
+	for _, name := range names {
+		if strings.HasSuffix(name, "_test.go") {
+			continue
+		}
+		file, err := parser.ParseFile(fset, name, nil, 0)
+		if err != nil {
+			t.Fatal(err)
+		}
+		files = append(files, file)
+		for _, d := range file.Decls {
+			if f, ok := d.(*ast.FuncDecl); ok {
+				p.functions = append(p.functions, f)
+			}
+		}
+	}
+	p.info = &types.Info{Types: map[ast.Expr]types.TypeAndValue{}, Uses: map[*ast.Ident]types.Object{}, Selections: map[*ast.SelectorExpr]*types.Selection{}}
+	config := types.Config{Importer: importer.ForCompiler(fset, "source", nil)}
+	if _, err := config.Check("tarry/"+layer, fset, files, p.info); err != nil {
+		t.Fatal(err)
+	}
+	return p
+}
+
+// has tells whether there is such a thing in any function.
+func (p program) has(is func(f *ast.FuncDecl, n ast.Node) bool) bool {
+	found := false
+	for _, f := range p.functions {
+		ast.Inspect(f, func(n ast.Node) bool {
+			found = found || n != nil && is(f, n)
+			return !found
+		})
+	}
+	return found
+}
+
+// names tells whether a name of another package is named.
+func (p program) names(path, name string) bool {
+	return p.has(func(_ *ast.FuncDecl, n ast.Node) bool {
+		x, ok := n.(*ast.SelectorExpr)
+		if !ok {
+			return false
+		}
+		o := p.info.Uses[x.Sel]
+		return o != nil && o.Name() == name && o.Pkg() != nil && o.Pkg().Path() == path
+	})
+}
+
+// The way of queue: the heap is the library's, over a type whose methods are called through an interface; the one by which a wait is pushed asserts that it is one.
+func TestQueueHasTheLibrarysHeap(t *testing.T) {
+	p := read(t, "queue")
+	for _, name := range []string{"Init", "Push", "Pop"} {
+		if !p.names("container/heap", name) {
+			t.Errorf("the library's heap is not asked: %s", name)
+		}
+	}
+	if !p.has(func(_ *ast.FuncDecl, n ast.Node) bool {
+		x, ok := n.(*ast.SelectorExpr)
+		if !ok {
+			return false
+		}
+		s := p.info.Selections[x]
+		return s != nil && s.Kind() == types.MethodVal && types.IsInterface(s.Recv())
+	}) {
+		t.Error("no method is called through an interface")
+	}
+	if !p.has(func(f *ast.FuncDecl, n ast.Node) bool {
+		x, ok := n.(*ast.TypeAssertExpr)
+		return ok && x.Type != nil && f.Recv != nil && f.Name.Name == "Push"
+	}) {
+		t.Error("nothing is asserted of what is pushed")
+	}
+}
