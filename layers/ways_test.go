@@ -7,6 +7,7 @@ import (
 	"go/token"
 	"go/types"
 	"path/filepath"
+	"slices"
 	"strings"
 	"testing"
 )
@@ -97,5 +98,49 @@ func TestQueueHasTheLibrarysHeap(t *testing.T) {
 		return ok && x.Type != nil && f.Recv != nil && f.Name.Name == "Push"
 	}) {
 		t.Error("nothing is asserted of what is pushed")
+	}
+}
+
+// The way of goods: rows are put together by a generic function, which a closure tells how they stand.
+func TestGoodsHasAGenericFunctionToldByAClosure(t *testing.T) {
+	p := read(t, "goods")
+	for _, row := range []string{"Skus", "Subs"} {
+		if !p.has(func(_ *ast.FuncDecl, n ast.Node) bool {
+			call, ok := n.(*ast.CallExpr)
+			return ok && p.isGenericOfItsOwn(call) && p.answersRow(call) && hasArgument(call, isField(row)) && hasArgument(call, isClosure)
+		}) {
+			t.Errorf("%s are not put together so", row)
+		}
+	}
+}
+
+// isGenericOfItsOwn tells whether a generic function is called that the program itself declares.
+func (p program) isGenericOfItsOwn(call *ast.CallExpr) bool {
+	name, ok := ast.Unparen(call.Fun).(*ast.Ident)
+	if !ok {
+		return false
+	}
+	f, ok := p.info.Uses[name].(*types.Func)
+	return ok && f.Signature().TypeParams().Len() > 0
+}
+
+func (p program) answersRow(call *ast.CallExpr) bool {
+	_, ok := p.info.Types[call].Type.Underlying().(*types.Slice)
+	return ok
+}
+
+func hasArgument(call *ast.CallExpr, is func(ast.Expr) bool) bool {
+	return slices.ContainsFunc(call.Args, is)
+}
+
+func isClosure(e ast.Expr) bool {
+	_, ok := e.(*ast.FuncLit)
+	return ok
+}
+
+func isField(name string) func(ast.Expr) bool {
+	return func(e ast.Expr) bool {
+		x, ok := e.(*ast.SelectorExpr)
+		return ok && x.Sel.Name == name
 	}
 }
