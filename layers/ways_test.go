@@ -114,6 +114,29 @@ func TestGoodsHasAGenericFunctionToldByAClosure(t *testing.T) {
 	}
 }
 
+// The way of stock: where units go from and to is told by pointers to numbers, which a closure picks for each call.
+func TestStockHasPointersPickedByAClosure(t *testing.T) {
+	p := read(t, "stock")
+	for _, call := range []string{"Hold", "Release", "Ship", "Lose"} {
+		if !p.has(func(f *ast.FuncDecl, n ast.Node) bool {
+			x, ok := n.(*ast.CallExpr)
+			return ok && f.Name.Name == call && hasArgument(x, p.picksTwoPointers)
+		}) {
+			t.Errorf("%s does not go so", call)
+		}
+	}
+}
+
+// picksTwoPointers tells whether a closure answers two pointers to numbers.
+func (p program) picksTwoPointers(e ast.Expr) bool {
+	f, ok := p.info.Types[e].Type.(*types.Signature)
+	if !ok || !isClosure(e) || f.Results().Len() != 2 {
+		return false
+	}
+	number := types.NewPointer(types.Typ[types.Int])
+	return types.Identical(f.Results().At(0).Type(), number) && types.Identical(f.Results().At(1).Type(), number)
+}
+
 // isGenericOfItsOwn tells whether a generic function is called that the program itself declares.
 func (p program) isGenericOfItsOwn(call *ast.CallExpr) bool {
 	name, ok := ast.Unparen(call.Fun).(*ast.Ident)
