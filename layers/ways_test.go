@@ -66,13 +66,19 @@ func (p program) has(is func(f *ast.FuncDecl, n ast.Node) bool) bool {
 // names tells whether a name of another package is named.
 func (p program) names(path, name string) bool {
 	return p.has(func(_ *ast.FuncDecl, n ast.Node) bool {
-		x, ok := n.(*ast.SelectorExpr)
-		if !ok {
-			return false
-		}
-		o := p.info.Uses[x.Sel]
-		return o != nil && o.Name() == name && o.Pkg() != nil && o.Pkg().Path() == path
+		e, ok := n.(ast.Expr)
+		return ok && p.isNamed(e, path, name)
 	})
+}
+
+// isNamed tells whether that is a name of another package.
+func (p program) isNamed(e ast.Expr, path, name string) bool {
+	x, ok := e.(*ast.SelectorExpr)
+	if !ok {
+		return false
+	}
+	o := p.info.Uses[x.Sel]
+	return o != nil && o.Name() == name && o.Pkg() != nil && o.Pkg().Path() == path
 }
 
 // The way of queue: the heap is the library's, over a type whose methods are called through an interface; the one by which a wait is pushed asserts that it is one.
@@ -125,6 +131,27 @@ func TestStockHasPointersPickedByAClosure(t *testing.T) {
 			t.Errorf("%s does not go so", call)
 		}
 	}
+}
+
+// The way of waits: a line's place in the sorted row is sought by a method value, which the library's search of sorted rows is handed.
+func TestWaitsIsSoughtByAMethodValue(t *testing.T) {
+	p := read(t, "waits")
+	if !p.has(func(_ *ast.FuncDecl, n ast.Node) bool {
+		call, ok := n.(*ast.CallExpr)
+		return ok && p.isNamed(call.Fun, "sort", "Search") && hasArgument(call, p.isMethodValue)
+	}) {
+		t.Error("it is not sought so")
+	}
+}
+
+// isMethodValue tells whether a method is handed on, and not called.
+func (p program) isMethodValue(e ast.Expr) bool {
+	x, ok := e.(*ast.SelectorExpr)
+	if !ok {
+		return false
+	}
+	s := p.info.Selections[x]
+	return s != nil && s.Kind() == types.MethodVal
 }
 
 // picksTwoPointers tells whether a closure answers two pointers to numbers.
