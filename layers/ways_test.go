@@ -144,6 +144,17 @@ func TestWaitsIsSoughtByAMethodValue(t *testing.T) {
 	}
 }
 
+// The way of timer: which ones are due is told by a generic function that parts a row in two.
+func TestTimerPartsByAGenericFunction(t *testing.T) {
+	p := read(t, "timer")
+	if !p.has(func(f *ast.FuncDecl, n ast.Node) bool {
+		call, ok := n.(*ast.CallExpr)
+		return ok && f.Name.Name == "Due" && p.isGenericOfItsOwn(call) && p.answersTwoRows(call)
+	}) {
+		t.Error("Due is not told so")
+	}
+}
+
 // isMethodValue tells whether a method is handed on, and not called.
 func (p program) isMethodValue(e ast.Expr) bool {
 	x, ok := e.(*ast.SelectorExpr)
@@ -177,6 +188,19 @@ func (p program) isGenericOfItsOwn(call *ast.CallExpr) bool {
 func (p program) answersRow(call *ast.CallExpr) bool {
 	_, ok := p.info.Types[call].Type.Underlying().(*types.Slice)
 	return ok
+}
+
+func (p program) answersTwoRows(call *ast.CallExpr) bool {
+	both, ok := p.info.Types[call].Type.(*types.Tuple)
+	if !ok || both.Len() != 2 {
+		return false
+	}
+	for one := range both.Variables() {
+		if _, ok := one.Type().Underlying().(*types.Slice); !ok {
+			return false
+		}
+	}
+	return true
 }
 
 func hasArgument(call *ast.CallExpr, is func(ast.Expr) bool) bool {
