@@ -155,6 +155,40 @@ func TestTimerPartsByAGenericFunction(t *testing.T) {
 	}
 }
 
+// The way of pay: what is done to money is told by a generic function, which is handed the money and a closure, and asks first.
+func TestPayIsToldByAGenericFunctionThatAsksFirst(t *testing.T) {
+	p := read(t, "pay")
+	for _, call := range []string{"Lapse", "Renew", "Catch", "Close"} {
+		if !p.has(func(f *ast.FuncDecl, n ast.Node) bool {
+			x, ok := n.(*ast.CallExpr)
+			return ok && f.Name.Name == call && p.isGenericOfItsOwn(x) && hasArgument(x, isClosure)
+		}) {
+			t.Errorf("%s is not told so", call)
+		}
+	}
+	if !p.has(func(f *ast.FuncDecl, n ast.Node) bool {
+		x, ok := n.(*ast.IfStmt)
+		return ok && f.Type.TypeParams != nil && f.Body.List[0] == x && asks(x, "Right")
+	}) {
+		t.Error("it does not ask first")
+	}
+}
+
+// asks tells whether what a statement hangs on is a call's answer.
+func asks(x *ast.IfStmt, call string) bool {
+	found := false
+	ast.Inspect(x.Cond, func(n ast.Node) bool {
+		c, ok := n.(*ast.CallExpr)
+		if !ok {
+			return true
+		}
+		name, ok := c.Fun.(*ast.Ident)
+		found = found || ok && name.Name == call
+		return true
+	})
+	return found
+}
+
 // isMethodValue tells whether a method is handed on, and not called.
 func (p program) isMethodValue(e ast.Expr) bool {
 	x, ok := e.(*ast.SelectorExpr)
