@@ -174,6 +174,46 @@ func TestPayIsToldByAGenericFunctionThatAsksFirst(t *testing.T) {
 	}
 }
 
+// The way of ask: what an answer makes stands in a map, which is asked by what the customer said, and has both states.
+func TestAskHasAMapOfAnswers(t *testing.T) {
+	p := read(t, "ask")
+	if !p.has(func(f *ast.FuncDecl, n ast.Node) bool {
+		x, ok := n.(*ast.IndexExpr)
+		return ok && f.Name.Name == "Answer" && p.isMap(x.X) && p.isParameter(f, x.Index)
+	}) {
+		t.Error("Answer does not ask it")
+	}
+	if !p.has(func(_ *ast.FuncDecl, n ast.Node) bool {
+		x, ok := n.(*ast.CompositeLit)
+		return ok && p.isMap(x) && p.hasValue(x, "AYes") && p.hasValue(x, "ANo")
+	}) {
+		t.Error("no map has yes and no")
+	}
+}
+
+func (p program) isMap(e ast.Expr) bool {
+	_, ok := p.info.Types[e].Type.Underlying().(*types.Map)
+	return ok
+}
+
+// isParameter tells whether that is what a function is handed.
+func (p program) isParameter(f *ast.FuncDecl, e ast.Expr) bool {
+	name, ok := e.(*ast.Ident)
+	if !ok {
+		return false
+	}
+	o := p.info.Uses[name]
+	return o != nil && f.Type.Params.Pos() <= o.Pos() && o.Pos() < f.Type.Params.End()
+}
+
+// hasValue tells whether a map's literal has a constant of api as a value.
+func (p program) hasValue(x *ast.CompositeLit, name string) bool {
+	return slices.ContainsFunc(x.Elts, func(e ast.Expr) bool {
+		pair, ok := e.(*ast.KeyValueExpr)
+		return ok && p.isNamed(pair.Value, "tarry/api", name)
+	})
+}
+
 // asks tells whether what a statement hangs on is a call's answer.
 func asks(x *ast.IfStmt, call string) bool {
 	found := false
