@@ -191,6 +191,42 @@ func TestAskHasAMapOfAnswers(t *testing.T) {
 	}
 }
 
+// The way of order: what is asked of each phase stands in an array of closures, one a phase, which is asked by an order's phase.
+func TestOrderHasAnArrayOfClosures(t *testing.T) {
+	p := read(t, "order")
+	if !p.has(func(_ *ast.FuncDecl, n ast.Node) bool {
+		x, ok := n.(*ast.IndexExpr)
+		return ok && p.isArrayOfFunctions(x.X) && isField("Phase")(x.Index)
+	}) {
+		t.Error("it is not asked so")
+	}
+	for _, phase := range []string{"PWait", "PSend", "PDone", "PPart", "PCancel"} {
+		if !p.has(func(_ *ast.FuncDecl, n ast.Node) bool {
+			x, ok := n.(*ast.CompositeLit)
+			return ok && p.isArrayOfFunctions(x) && p.hasClosure(x, phase)
+		}) {
+			t.Errorf("no closure is asked of %s", phase)
+		}
+	}
+}
+
+func (p program) isArrayOfFunctions(e ast.Expr) bool {
+	row, ok := p.info.Types[e].Type.Underlying().(*types.Array)
+	if !ok {
+		return false
+	}
+	_, ok = row.Elem().Underlying().(*types.Signature)
+	return ok
+}
+
+// hasClosure tells whether a literal has a closure at the place that a constant of api names.
+func (p program) hasClosure(x *ast.CompositeLit, name string) bool {
+	return slices.ContainsFunc(x.Elts, func(e ast.Expr) bool {
+		pair, ok := e.(*ast.KeyValueExpr)
+		return ok && p.isNamed(pair.Key, "tarry/api", name) && isClosure(pair.Value)
+	})
+}
+
 func (p program) isMap(e ast.Expr) bool {
 	_, ok := p.info.Types[e].Type.Underlying().(*types.Map)
 	return ok
