@@ -210,6 +210,75 @@ func TestOrderHasAnArrayOfClosures(t *testing.T) {
 	}
 }
 
+// The ways of outbox: what Tell tells is handed on by an iterator of its own; rows are sought, by Put, Done and Find, by a generic function that answers one of them.
+func TestOutboxHandsOnAndSeeks(t *testing.T) {
+	p := read(t, "outbox")
+	if !p.has(func(f *ast.FuncDecl, n ast.Node) bool {
+		x, ok := n.(*ast.RangeStmt)
+		return ok && f.Name.Name == "Tell" && p.isOfItsOwn(x.X) && p.handsOn(x.X, "tarry/api.Out")
+	}) {
+		t.Error("Tell does not hand on so")
+	}
+	for _, call := range []string{"Put", "Done", "Find"} {
+		if !p.leadsTo(call, func(_ *ast.FuncDecl, n ast.Node) bool {
+			x, ok := n.(*ast.CallExpr)
+			return ok && p.isGenericOfItsOwn(x) && hasArgument(x, p.isRowOf("tarry/api.Out")) && hasArgument(x, p.isFunction)
+		}) {
+			t.Errorf("%s does not seek so", call)
+		}
+	}
+}
+
+// leadsTo tells whether there is such a thing in a function, or in one that it calls.
+func (p program) leadsTo(name string, is func(f *ast.FuncDecl, n ast.Node) bool) bool {
+	return p.has(func(f *ast.FuncDecl, n ast.Node) bool {
+		if f.Name.Name != name {
+			return false
+		}
+		call, ok := n.(*ast.CallExpr)
+		if !ok {
+			return is(f, n)
+		}
+		inner, ok := call.Fun.(*ast.Ident)
+		return is(f, n) || ok && inner.Name != name && p.leadsTo(inner.Name, is)
+	})
+}
+
+// isOfItsOwn tells whether that is the answer of a function that the program itself declares.
+func (p program) isOfItsOwn(e ast.Expr) bool {
+	call, ok := e.(*ast.CallExpr)
+	if !ok {
+		return false
+	}
+	name, ok := call.Fun.(*ast.Ident)
+	return ok && slices.ContainsFunc(p.functions, func(f *ast.FuncDecl) bool { return f.Name.Name == name.Name })
+}
+
+// handsOn tells whether that is an iterator whose last value is of a type.
+func (p program) handsOn(e ast.Expr, name string) bool {
+	f, ok := p.info.Types[e].Type.Underlying().(*types.Signature)
+	if !ok || f.Params().Len() != 1 {
+		return false
+	}
+	yield, ok := f.Params().At(0).Type().Underlying().(*types.Signature)
+	if !ok || yield.Params().Len() == 0 {
+		return false
+	}
+	return yield.Params().At(yield.Params().Len()-1).Type().String() == name
+}
+
+func (p program) isRowOf(name string) func(ast.Expr) bool {
+	return func(e ast.Expr) bool {
+		row, ok := p.info.Types[e].Type.Underlying().(*types.Slice)
+		return ok && row.Elem().String() == name
+	}
+}
+
+func (p program) isFunction(e ast.Expr) bool {
+	_, ok := p.info.Types[e].Type.Underlying().(*types.Signature)
+	return ok
+}
+
 func (p program) isArrayOfFunctions(e ast.Expr) bool {
 	row, ok := p.info.Types[e].Type.Underlying().(*types.Array)
 	if !ok {
