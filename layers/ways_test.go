@@ -229,6 +229,48 @@ func TestOutboxHandsOnAndSeeks(t *testing.T) {
 	}
 }
 
+// The ways of net: Take, Twice and Last pick a parcel out of a row that is cut in three, each part with no more room than itself; they put parts together again by a variadic function of its own.
+func TestNetCutsInThreeAndPutsTogether(t *testing.T) {
+	p := read(t, "net")
+	for _, call := range []string{"Take", "Twice", "Last"} {
+		if !p.leadsTo(call, func(_ *ast.FuncDecl, n ast.Node) bool {
+			x, ok := n.(*ast.ReturnStmt)
+			return ok && count(x.Results, p.isCutOf("tarry/api.Parcel")) == 3
+		}) {
+			t.Errorf("%s does not cut in three", call)
+		}
+		if !p.has(func(f *ast.FuncDecl, n ast.Node) bool {
+			x, ok := n.(*ast.CallExpr)
+			return ok && f.Name.Name == call && p.isOfItsOwn(x) && p.isVariadic(x) && count(x.Args, p.isRowOf("tarry/api.Parcel")) >= 2
+		}) {
+			t.Errorf("%s does not put together so", call)
+		}
+	}
+}
+
+// isCutOf tells whether that is a row's part that is told how much room it has.
+func (p program) isCutOf(name string) func(ast.Expr) bool {
+	return func(e ast.Expr) bool {
+		x, ok := e.(*ast.SliceExpr)
+		return ok && x.Slice3 && p.isRowOf(name)(x)
+	}
+}
+
+func (p program) isVariadic(call *ast.CallExpr) bool {
+	f, ok := p.info.Types[call.Fun].Type.Underlying().(*types.Signature)
+	return ok && f.Variadic()
+}
+
+func count(l []ast.Expr, is func(ast.Expr) bool) int {
+	n := 0
+	for _, e := range l {
+		if is(e) {
+			n++
+		}
+	}
+	return n
+}
+
 // leadsTo tells whether there is such a thing in a function, or in one that it calls.
 func (p program) leadsTo(name string, is func(f *ast.FuncDecl, n ast.Node) bool) bool {
 	return p.has(func(f *ast.FuncDecl, n ast.Node) bool {
