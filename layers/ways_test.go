@@ -248,6 +248,54 @@ func TestNetCutsInThreeAndPutsTogether(t *testing.T) {
 	}
 }
 
+// The ways of state: all rows that Read reads are read by a generic function of its own; what is odd in one is panicked, below it, and Read alone recovers it.
+func TestStateReadsRowsAndPanicsOfWhatIsOdd(t *testing.T) {
+	p := read(t, "state")
+	for _, row := range []string{"Sub", "Row", "Order", "Out"} {
+		if !p.leadsTo("Read", func(_ *ast.FuncDecl, n ast.Node) bool {
+			x, ok := n.(*ast.CallExpr)
+			return ok && p.isGenericOfItsOwn(x) && p.isRowOf("tarry/api."+row)(x)
+		}) {
+			t.Errorf("rows of %s are not read so", row)
+		}
+	}
+	if !p.leadsTo("rowsOf", func(f *ast.FuncDecl, n ast.Node) bool {
+		return f.Name.Name != "Read" && p.isCallOf(n, "panic")
+	}) {
+		t.Error("what is odd in a row is not panicked")
+	}
+	if !p.has(func(f *ast.FuncDecl, n ast.Node) bool {
+		x, ok := n.(*ast.DeferStmt)
+		return ok && f.Name.Name == "Read" && isClosure(x.Call.Fun) && p.holds(x.Call.Fun, "recover")
+	}) {
+		t.Error("Read does not recover it")
+	}
+}
+
+// isCallOf tells whether one of the language's own functions is called.
+func (p program) isCallOf(n ast.Node, name string) bool {
+	call, ok := n.(*ast.CallExpr)
+	if !ok {
+		return false
+	}
+	f, ok := call.Fun.(*ast.Ident)
+	if !ok {
+		return false
+	}
+	o, ok := p.info.Uses[f].(*types.Builtin)
+	return ok && o.Name() == name
+}
+
+// holds tells whether one of the language's own functions is called somewhere in that.
+func (p program) holds(within ast.Node, name string) bool {
+	found := false
+	ast.Inspect(within, func(n ast.Node) bool {
+		found = found || p.isCallOf(n, name)
+		return !found
+	})
+	return found
+}
+
 // isCutOf tells whether that is a row's part that is told how much room it has.
 func (p program) isCutOf(name string) func(ast.Expr) bool {
 	return func(e ast.Expr) bool {
