@@ -21,7 +21,7 @@ func (x *name) text() string { return string(*x) }
 
 func (x *name) read(text string) { *x = name(text) }
 
-// text tells no error: all numbers of a state that may be are small enough.
+// text has no error to tell: all numbers of a state that may be are small enough.
 func (x *number) text() string {
 	text, _ := pack.Number(int(*x))
 	return text

@@ -16,6 +16,8 @@ import (
 	"tarry/outbox"
 	"tarry/state"
 	"tarry/stock"
+	"tarry/timer"
+	"tarry/waits"
 )
 
 const most = 1 << 40 // of a time, of an order, and of a key
@@ -336,15 +338,16 @@ func held(t *testing.T, s api.State) {
 	read(t, bytesOf(s))
 }
 
+// heldOrders holds, too, that what orders make stands as the layers below say.
 func heldOrders(t *testing.T, l []api.Order) {
 	t.Helper()
-	waits, e := state.Waits(l)
-	if want, wantE := waitsAnswer(l); e != wantE || !slices.Equal(waits, want) {
-		t.Fatalf("Waits = %v, %d; want %v, %d: %+v", waits, e, want, wantE, l)
+	index, e := state.Waits(l)
+	if want, wantE := waitsAnswer(l); e != wantE || !slices.Equal(index, want) || !waits.Right(index) {
+		t.Fatalf("Waits = %v, %d; want %v, %d: %+v", index, e, want, wantE, l)
 	}
-	timers, e := state.Timers(l)
-	if want, wantE := timersAnswer(l); e != wantE || !slices.Equal(timers, want) {
-		t.Fatalf("Timers = %v, %d; want %v, %d: %+v", timers, e, want, wantE, l)
+	due, e := state.Timers(l)
+	if want, wantE := timersAnswer(l); e != wantE || !slices.Equal(due, want) || !timer.Right(due) {
+		t.Fatalf("Timers = %v, %d; want %v, %d: %+v", due, e, want, wantE, l)
 	}
 	for _, o := range l {
 		heldOrder(t, o)

@@ -105,7 +105,7 @@ func fieldsText(fields []field) string {
 	return rowText(texts)
 }
 
-// rowText tells no error: in a state that may be there are few of all, and each is short.
+// rowText has no error to tell: in a state that may be there are few of all, and each is short.
 func rowText(texts []string) string {
 	text, _ := pack.Row(texts...)
 	return text
